@@ -1,0 +1,1 @@
+"""Forced wins in small duels."""
