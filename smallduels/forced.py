@@ -5,12 +5,11 @@ What calls itself here goes k deep, and k is at most 6.
 
 from smallduels.halfturn import (
     block_ways,
-    choice_at,
     choice_count,
     choices_against,
+    clash_at,
     power_of,
     strike,
-    throw_bolts,
 )
 from smallduels.position import mover_of, other_of
 
@@ -45,7 +44,7 @@ def find_proof(position, q, k):
 
 def proof_by_choice(position, q, k):
     for place in range(choice_count(position)):
-        clash = throw_bolts(position, choice_at(position, place))
+        clash = clash_at(position, place)
         rest = proof_behind_all_blocks(clash, q, k)
         if rest is not None:
             return [place] + rest
@@ -68,7 +67,7 @@ def proof_behind_all_blocks(clash, q, k):
 def proof_by_answers(position, q, k):
     row = []
     for place in range(choice_count(position)):
-        clash = throw_bolts(position, choice_at(position, place))
+        clash = clash_at(position, place)
         rest = proof_behind_first_block(clash, q, k)
         if rest is None:
             return None
@@ -103,7 +102,7 @@ def follow(position, q, k, row, start):
 def follow_choice(position, q, k, row, start):
     if start >= len(row) or not 0 <= row[start] < choice_count(position):
         return NO_PROOF
-    clash = throw_bolts(position, choice_at(position, row[start]))
+    clash = clash_at(position, row[start])
     end = start + 1
     for way in block_ways(clash):
         after = strike(clash, way)
@@ -117,7 +116,7 @@ def follow_choice(position, q, k, row, start):
 def follow_answers(position, q, k, row, start):
     end = start
     for place in range(choice_count(position)):
-        clash = throw_bolts(position, choice_at(position, place))
+        clash = clash_at(position, place)
         ways = block_ways(clash)
         if end >= len(row) or not 0 <= row[end] < len(ways):
             return NO_PROOF

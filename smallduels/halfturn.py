@@ -91,6 +91,10 @@ def throw_bolts(position, choice):
     return clash
 
 
+def clash_at(position, place):
+    return throw_bolts(position, choice_at(position, place))
+
+
 # As far as these two alone decide it; dread_allows looks at all blockers together.
 def may_block(being, attacker):
     if being.bent:

@@ -1,5 +1,6 @@
 """What the tests share: calls as lists, answers taken apart, and a slow model written straight from the document."""
 
+import copy
 import itertools
 import random
 
@@ -45,6 +46,46 @@ def check(q, k, *row):
     return [8, q, k, len(row), *row]
 
 
+def least(q, k):
+    return [9, q, k]
+
+
+def ways():
+    return [10]
+
+
+def choice(i):
+    return [11, i]
+
+
+def blocks(i):
+    return [12, i]
+
+
+def block(i, j):
+    return [13, i, j]
+
+
+def play(i, j):
+    return [14, i, j]
+
+
+def undo():
+    return [15]
+
+
+def state():
+    return [16]
+
+
+def crowd(first, second):
+    """The calls for beings and bolts without power to speak of: (beings, bolts) of each side."""
+    calls = [life(0, MOST), life(1, MOST)]
+    for p, told in enumerate((first, second)):
+        calls += [being(p, 0, 1)] * told[0] + [bolt(p, 1)] * told[1]
+    return calls
+
+
 def run(*calls):
     """The answers of the calls, one list for each."""
     line = []
@@ -70,15 +111,18 @@ def last(*calls):
 
 
 # The model. A position is a dict: "mover", and "sides" with "life", "beings" and "bolts";
-# a being is a dict with "power", "body", "keys" and "bent".
+# a being is a dict with "number", "power", "body", "keys" and "bent".
 
 def side(life_points, beings=(), bolts=()):
     """A side of the model; its beings are told as (power, body, *keys)."""
-    made = [{"power": b[0], "body": b[1], "keys": set(b[2:]), "bent": False} for b in beings]
+    made = [{"number": 0, "power": b[0], "body": b[1], "keys": set(b[2:]), "bent": False} for b in beings]
     return {"life": life_points, "beings": made, "bolts": list(bolts)}
 
 
 def position(first, second, to_move=0):
+    """Its beings are numbered as by the calls of calls_for."""
+    for number, b in enumerate(first["beings"] + second["beings"], start=1):
+        b["number"] = number
     return {"mover": to_move, "sides": [first, second]}
 
 
@@ -93,7 +137,7 @@ def calls_for(pos):
     return calls
 
 
-def ways(pos, k):
+def model_ways(pos, k):
     product = 1
     for turn in range(k):
         m = pos["sides"][(pos["mover"] + turn) % 2]
@@ -104,6 +148,7 @@ def ways(pos, k):
 
 
 def model_choices(pos):
+    """Each as the values of the bolts, then 0 or 1 for each being."""
     m, o = pos["sides"][pos["mover"]], pos["sides"][1 - pos["mover"]]
     bolts = [range(len(o["beings"]) + 2)] * len(m["bolts"])
     return list(itertools.product(*bolts, *[range(2)] * len(m["beings"])))
@@ -263,3 +308,183 @@ def random_positions(seed, count, most_beings=2, most_bolts=1):
     rng = random.Random(seed)
     return [position(random_side(rng, most_beings, most_bolts), random_side(rng, most_beings, most_bolts),
                      rng.randint(0, 1)) for number in range(count)]
+
+
+def random_played(seed, count, most_beings=2, most_bolts=1):
+    """Pairs of calls, the last of them play, and the position that came of them; some of its beings are bent."""
+    rng = random.Random(seed)
+    made = []
+    while len(made) < count:
+        pos = position(random_side(rng, most_beings, most_bolts), random_side(rng, most_beings, most_bolts),
+                       rng.randint(0, 1))
+        calls = calls_for(pos)
+        for turn in range(rng.randint(1, 2)):
+            i = rng.randrange(len(model_choices(pos)))
+            j = rng.randrange(len(model_blocks(pos, model_choices(pos)[i])))
+            after = model_outcome(pos, model_choices(pos)[i], model_blocks(pos, model_choices(pos)[i])[j])
+            if after is not None and model_ways(pos, 1) <= 50000:
+                calls.append(play(i, j))
+                pos = after
+        if any(b["bent"] for s in pos["sides"] for b in s["beings"]):
+            made.append((calls, pos))
+    return made
+
+
+class ModelDuel:
+    """The model of a line: answer takes one call after another."""
+
+    names = ("life", "being", "remove", "bolt", "mover", "win", "hold", "proof", "check", "least",
+             "ways", "choice", "blocks", "block", "play", "undo", "state")
+
+    def __init__(self):
+        self.pos = position(side(20), side(20))
+        self.made = 0
+        self.winner = None
+        self.before = []
+
+    def answer(self, call):
+        number = call[0]
+        if self.is_outside(call):
+            return [-1]
+        if number <= 14 and self.winner is not None:
+            return [-2]
+        if 5 <= number <= 14 and model_ways(self.pos, call[2] if number <= 9 else 1) > 50000:
+            return [-3]
+        if number <= 4:
+            return self.edit(call)
+        return getattr(self, self.names[number])(*call[1:])
+
+    @staticmethod
+    def is_outside(call):
+        number = call[0]
+        if number in (0, 1, 3, 4, 5, 6, 7, 8, 9) and call[1] not in (0, 1):
+            return True
+        if number in (0, 3):
+            return call[2] < 1
+        if number == 1:
+            return call[2] < 0 or call[3] < 1 or any(key not in range(5) for key in call[5:])
+        return 5 <= number <= 9 and call[2] not in range(1, 7)
+
+    def edit(self, call):
+        before = self.pos
+        self.pos = copy.deepcopy(before)
+        given = getattr(self, self.names[call[0]])(*call[1:])
+        if given[0] == 0:
+            self.before = []
+        else:
+            self.pos = before
+        return given
+
+    def life(self, p, n):
+        self.pos["sides"][p]["life"] = n
+        return [0]
+
+    def being(self, p, power, body, count, *keys):
+        beings = self.pos["sides"][p]["beings"]
+        if len(beings) == 4:
+            return [-4]
+        self.made += 1
+        beings.append({"number": self.made, "power": power, "body": body, "keys": set(keys), "bent": False})
+        return [0, self.made]
+
+    def remove(self, n):
+        for s in self.pos["sides"]:
+            for b in s["beings"]:
+                if b["number"] == n:
+                    s["beings"].remove(b)
+                    return [0]
+        return [-5]
+
+    def bolt(self, p, n):
+        if len(self.pos["sides"][p]["bolts"]) == 3:
+            return [-4]
+        self.pos["sides"][p]["bolts"].append(n)
+        return [0]
+
+    def mover(self, p):
+        self.pos["mover"] = p
+        for b in self.pos["sides"][p]["beings"]:
+            b["bent"] = False
+        return [0]
+
+    def win(self, q, k):
+        return [int(model_win(self.pos, q, k))]
+
+    def hold(self, q, k):
+        return [int(model_hold(self.pos, q, k))]
+
+    def proof(self, q, k):
+        return [1] + model_proof(self.pos, q, k) if model_win(self.pos, q, k) else [0]
+
+    def check(self, q, k, count, *row):
+        return [int(model_accepts(self.pos, q, k, row))]
+
+    def least(self, q, k):
+        return [min([n for n in range(1, k + 1) if model_win(self.pos, q, n)], default=0)]
+
+    def ways(self):
+        every = model_choices(self.pos)
+        return [0, len(every), sum(len(model_blocks(self.pos, one)) for one in every)]
+
+    def choice(self, i):
+        if i not in range(len(model_choices(self.pos))):
+            return [-5]
+        m, o = self.pos["sides"][self.pos["mover"]], self.pos["sides"][1 - self.pos["mover"]]
+        chosen = model_choices(self.pos)[i]
+        told = [0, len(m["bolts"])]
+        for value in chosen[:len(m["bolts"])]:
+            told.append(value if value < 2 else o["beings"][value - 2]["number"] + 1)
+        return told + [m["beings"][place]["number"] for place in attackers_of(self.pos, chosen)]
+
+    def blocks(self, i):
+        if i not in range(len(model_choices(self.pos))):
+            return [-5]
+        return [0, len(model_blocks(self.pos, model_choices(self.pos)[i]))]
+
+    def way(self, i, j):
+        """The choice and the way to block, or a refusal."""
+        if i not in range(len(model_choices(self.pos))):
+            return [-5]
+        chosen = model_choices(self.pos)[i]
+        if j not in range(len(model_blocks(self.pos, chosen))):
+            return [-6]
+        return chosen, model_blocks(self.pos, chosen)[j]
+
+    def block(self, i, j):
+        found = self.way(i, j)
+        if len(found) == 1:
+            return found
+        m, o = self.pos["sides"][self.pos["mover"]], self.pos["sides"][1 - self.pos["mover"]]
+        attackers = [m["beings"][place]["number"] for place in attackers_of(self.pos, found[0])]
+        told = [0]
+        for place, value in sorted(found[1].items()):
+            told += [o["beings"][place]["number"], attackers[value - 1]] if value else []
+        return told
+
+    def play(self, i, j):
+        found = self.way(i, j)
+        if len(found) == 1:
+            return found
+        self.before.append(self.pos)
+        after = model_outcome(self.pos, *found)
+        if after is None:
+            self.winner = self.pos["mover"]
+            return [0, 1]
+        self.pos = after
+        return [0, 0]
+
+    def undo(self):
+        if not self.before:
+            return [-7]
+        self.pos = self.before.pop()
+        self.winner = None
+        return [0]
+
+    def state(self):
+        told = [0, 0 if self.winner is None else self.winner + 1, self.pos["mover"]]
+        for s in self.pos["sides"]:
+            told += [s["life"], len(s["beings"])]
+            for b in s["beings"]:
+                told += [b["number"], b["power"], b["body"], sum(2 ** key for key in b["keys"]), int(b["bent"])]
+            told += [len(s["bolts"]), *s["bolts"]]
+        return told
